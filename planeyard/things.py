@@ -45,8 +45,12 @@ def are_edges(thing, net):
     return are_pairs(thing) and is_rising(thing) and all([edge in net[1] for edge in thing])
 
 
+def edge_between(one, other):
+    return (min(one, other), max(one, other))
+
+
 def are_neighbours(net, one, other):
-    return (min(one, other), max(one, other)) in net[1]
+    return edge_between(one, other) in net[1]
 
 
 def places_near(net, place):

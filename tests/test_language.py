@@ -29,6 +29,12 @@ METHODS = set(
 WORDS = re.compile(
     r"\b(type|typing|typing_extensions|enum|Enum|IntEnum|StrEnum|Flag|IntFlag|Generic|Protocol|ABC|ABCMeta|"
     r"namedtuple|NamedTuple|TypedDict|TYPE_CHECKING|abstractmethod)\b|dataclass|overload|contextmanager")
+WALKED_AT_ONCE = {"zip", "enumerate", "reversed", "range"}
+VIEWS = {"items", "keys", "values"}
+WALKERS = {"list", "tuple", "dict", "sorted", "sum", "any", "all", "enumerate", "zip"}
+CHANGES = {"append", "clear", "extend", "insert", "pop", "remove", "reverse", "setdefault", "update"}
+KEYWORDS = {"sorted": {"key", "reverse"}, "min": {"key", "default"}, "max": {"key", "default"}, "sum": {"start"},
+            "enumerate": {"start"}, "zip": {"strict"}}
 FILES_NOT_CALLED = set(dir(builtins)) | {"test", "tests", "testing", "site", "conftest", "typing", "enum"}
 
 
@@ -58,6 +64,52 @@ def bound_names(tree):
         elif isinstance(node, ast.ExceptHandler) and node.name:
             bound.add(node.name)
     return bound
+
+
+def with_parents():
+    return [(name, parent, node) for name, parent in nodes() for node in ast.iter_child_nodes(parent)]
+
+
+def called_name(node):
+    return node.func.id if isinstance(node, ast.Call) and isinstance(node.func, ast.Name) else None
+
+
+def called_method(node):
+    return node.func.attr if isinstance(node, ast.Call) and isinstance(node.func, ast.Attribute) else None
+
+
+def names_walked(walked):
+    """What a loop walks, itself or through enumerate, zip, reversed or items."""
+    if called_name(walked) in WALKED_AT_ONCE - {"range"}:
+        return {name for each in walked.args for name in names_walked(each)}
+    if called_method(walked) in VIEWS:
+        return names_walked(walked.func.value)
+    return {ast.unparse(walked)}
+
+
+def names_changed(loop):
+    changed = set()
+    for statement in loop.body:
+        for node in ast.walk(statement):
+            if called_method(node) in CHANGES:
+                changed.add(ast.unparse(node.func.value))
+            elif isinstance(node, ast.Subscript) and isinstance(node.ctx, ast.Store):
+                changed.add(ast.unparse(node.value))
+    return changed
+
+
+def top_names(tree):
+    tops = []
+    for node in tree.body:
+        if isinstance(node, (ast.FunctionDef, ast.ClassDef)):
+            tops.append(node.name)
+        elif isinstance(node, ast.Assign):
+            tops.append(node.targets[0].id)
+    return tops
+
+
+def imported_names(tree):
+    return [alias.name for node in tree.body if isinstance(node, ast.ImportFrom) for alias in node.names]
 
 
 class Language(unittest.TestCase):
@@ -121,15 +173,70 @@ class Language(unittest.TestCase):
 
     def test_names_at_the_top_are_bound_once(self):
         for name, tree in trees():
-            tops = []
-            for node in tree.body:
-                if isinstance(node, (ast.FunctionDef, ast.ClassDef)):
-                    tops.append(node.name)
-                elif isinstance(node, ast.Assign):
-                    tops.append(node.targets[0].id)
-                elif isinstance(node, ast.ImportFrom):
-                    tops += [alias.name for alias in node.names]
+            tops = top_names(tree) + imported_names(tree)
             self.assertEqual(len(set(tops)), len(tops), name)
+
+    def test_no_local_is_called_like_an_import(self):
+        for name, tree in trees():
+            for node in tree.body:
+                if not isinstance(node, ast.ImportFrom):
+                    self.assertEqual(bound_names(node) & set(imported_names(tree)), set(), name)
+
+    def test_names_are_drawn_from_the_file_that_defines_them_and_are_used(self):
+        defined = {name: top_names(tree) for name, tree in trees()}
+        for name, tree in trees():
+            used = {node.id for node in ast.walk(tree) if isinstance(node, ast.Name)}
+            self.assertLessEqual(set(imported_names(tree)), used, name)
+            for node in tree.body:
+                if isinstance(node, ast.ImportFrom):
+                    source = defined[node.module.partition(".")[2] + ".py"]
+                    self.assertLessEqual({alias.name for alias in node.names}, set(source), name)
+
+    def test_only_calls_stand_by_themselves(self):
+        for name, tree in trees():
+            self.assertIsNotNone(ast.get_docstring(tree), name)
+            for node in ast.walk(tree):
+                if isinstance(node, ast.Expr) and node != tree.body[0]:
+                    self.assertIsInstance(node.value, ast.Call, f"{name}: {node.lineno}")
+
+    def test_no_annotations(self):
+        for name, node in nodes():
+            if isinstance(node, ast.arg):
+                self.assertIsNone(node.annotation, f"{name}: {node.lineno}")
+            if isinstance(node, ast.FunctionDef):
+                self.assertIsNone(node.returns, f"{name}: {node.lineno}")
+
+    def test_walked_at_once(self):
+        for name, parent, node in with_parents():
+            if called_name(node) in WALKED_AT_ONCE or called_method(node) in VIEWS:
+                loop = isinstance(parent, (ast.For, ast.comprehension)) and parent.iter == node
+                taken = called_name(parent) in WALKERS and parent.args[0] == node
+                alone = called_name(parent) in ("min", "max") and parent.args == [node]
+                joined = called_method(parent) == "join" and isinstance(parent.func.value, ast.Constant)
+                self.assertTrue(loop or taken or alone or joined, f"{name}: {node.lineno}")
+
+    def test_what_a_loop_walks_is_not_changed_in_it(self):
+        for name, node in nodes():
+            if isinstance(node, ast.For):
+                self.assertEqual(names_walked(node.iter) & names_changed(node), set(), f"{name}: {node.lineno}")
+
+    def test_sets_are_not_kept(self):
+        for name, parent, node in with_parents():
+            if called_name(node) in ("set", "frozenset") or isinstance(node, ast.Set):
+                fine = isinstance(parent, (ast.Compare, ast.BinOp)) or called_name(parent) in ("sorted", "len")
+                self.assertTrue(fine, f"{name}: {node.lineno}")
+
+    def test_keywords(self):
+        own = {each for name, tree in trees() for each in top_names(tree)}
+        for name, node in nodes():
+            if isinstance(node, ast.Call) and called_name(node) not in own:
+                given = {keyword.arg for keyword in node.keywords}
+                self.assertLessEqual(given, KEYWORDS.get(called_name(node), set()), f"{name}: {node.lineno}")
+
+    def test_texts(self):
+        for name, node in nodes():
+            if isinstance(node, ast.Constant) and isinstance(node.value, str):
+                self.assertNotIn("%", node.value, f"{name}: {node.lineno}")
 
     def test_methods(self):
         own = {each for name, tree in trees() for node in ast.walk(tree) if isinstance(node, ast.ClassDef)
