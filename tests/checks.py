@@ -96,9 +96,14 @@ def next_darts(wheel):
     return behind
 
 
-def plain_handles(net, wheel):
+def plain_faces(wheel):
+    """The darts of each face, by its least one: how they follow one another is not told."""
     behind = next_darts(wheel)
-    faces = plain_parts(behind, behind.items())
+    return plain_parts(behind, behind.items())
+
+
+def plain_handles(net, wheel):
+    faces = plain_faces(wheel)
     doubled = 0
     for part in plain_parts(range(net[0]), net[1]):
         edges = [edge for edge in net[1] if edge[0] in part]
@@ -157,3 +162,71 @@ def knot_fault(thing, net):
             all(joined.get((min(pair), max(pair))) == 1 for pair in itertools.product(three, set(ends) - set(three)))
             for three in itertools.combinations(ends, 3))
     return None if fine else "not each end is joined with each by just one way"
+
+
+def plain_sides(net, wheel):
+    faces = plain_faces(wheel)
+    return tuple(tuple(k for k, face in enumerate(faces) for dart in (edge, edge[::-1]) if dart in face)
+                 for edge in net[1])
+
+
+def plain_halves(net, wheel, ring):
+    """The faces of the ring's part, as they hang together over edges that are none of the ring's."""
+    faces, sides = plain_faces(wheel), plain_sides(net, wheel)
+    round_it = [set(pair) for pair in zip(ring, ring[1:] + ring[:1])]
+    halves = plain_parts(range(len(faces)), [pair for edge, pair in zip(net[1], sides) if set(edge) not in round_it])
+    part = next(part for part in plain_parts(range(net[0]), net[1]) if ring[0] in part)
+    return tuple(half for half in halves if faces[half[0]][0][0] in part)
+
+
+def least_ahead(part):
+    """The same round, begun at the least one."""
+    return next((part[k:] + part[:k] for k in range(len(part)) if part[k] == min(part)), ())
+
+
+def plain_without(net, wheel, edge):
+    parts = [least_ahead(tuple(near for near in part if {place, near} != set(edge)))
+             for place, part in enumerate(wheel)]
+    return ((net[0], tuple(each for each in net[1] if each != edge)), tuple(parts))
+
+
+def plain_with_edge(net, wheel, dart, other):
+    parts = [list(part) for part in wheel]
+    for (came, place), (_, far) in ((dart, other), (other, dart)):
+        parts[place].insert(parts[place].index(came) + 1, far)
+    edges = sorted(net[1] + ((min(dart[1], other[1]), max(dart[1], other[1])),))
+    return ((net[0], tuple(edges)), tuple(least_ahead(tuple(part)) for part in parts))
+
+
+def plain_together(net, edge):
+    """The net with the edge drawn together to its lesser place."""
+    names = [edge[0] if place == edge[1] else place - (place > edge[1]) for place in range(net[0])]
+    pairs = {tuple(sorted((names[one], names[other]))) for one, other in net[1] if (one, other) != edge}
+    return (net[0] - 1, tuple(sorted(pairs)))
+
+
+def well_coloured(net, colours):
+    return all(colours[one] != colours[other] for one, other in net[1])
+
+
+def plain_coloured(net, many):
+    """The first of all tuples of colours, gone through in order, that will do."""
+    choices = itertools.product(range(many), repeat=net[0])
+    return next((colours for colours in choices if well_coloured(net, colours)), None)
+
+
+def coloured_in_order(net, many):
+    """As plain_coloured, but a tuple is given up where the first of its places are wrong already."""
+    near = near_rows(net)
+
+    def go_on(colours):
+        if len(colours) == net[0]:
+            return colours
+        for colour in range(many):
+            if all(colours[place] != colour for place in near[len(colours)] if place < len(colours)):
+                found = go_on(colours + (colour,))
+                if found:
+                    return found
+        return None
+
+    return go_on(())

@@ -2,6 +2,8 @@
 
 import itertools
 
+from checks import least_ahead, plain_faces, plain_with_edge
+
 
 def all_pairs(count):
     return tuple(itertools.combinations(range(count), 2))
@@ -88,6 +90,15 @@ def wheels_of(net):
         row = sorted(near)
         choices.append([tuple(row[:1]) + rest for rest in itertools.permutations(row[1:])])
     return itertools.product(*choices)
+
+
+def chance_wheel(net, dice):
+    parts = []
+    for near in edge_places(net):
+        rest = sorted(near)[1:]
+        dice.shuffle(rest)
+        parts.append(tuple(sorted(near)[:1] + rest))
+    return tuple(parts)
 
 
 def with_truth(row, k):
@@ -209,6 +220,64 @@ def chance_knot_net(count, size, dice):
     seed = dice.choice([full(5), two_threes()])
     knot = stretched(seed, dice.randint(seed[0], count), dice)
     return shuffled(crowded_by_chance((count, knot[1]), size, dice), dice)
+
+
+def dart_pairs(net, wheel):
+    """Each two darts of one face that end at places which are no neighbours and not the same."""
+    near = edge_places(net)
+    return [(dart, other) for face in plain_faces(wheel) for dart, other in itertools.permutations(face, 2)
+            if dart[1] != other[1] and other[1] not in near[dart[1]]]
+
+
+def chance_flat_wheel(count, size, dice):
+    """A net of one part and a flat wheel of it: edges are put into faces, at first of a tree."""
+    net = chance_tree(count, dice)
+    wheel = chance_wheel(net, dice)
+    while len(net[1]) < size:
+        pairs = dart_pairs(net, wheel)
+        if not pairs:
+            break
+        net, wheel = plain_with_edge(net, wheel, *dice.choice(pairs))
+    return (net, wheel)
+
+
+def wheels_side_by_side(*pairs):
+    count, parts = 0, []
+    for net, wheel in pairs:
+        parts += [tuple(near + count for near in part) for part in wheel]
+        count += net[0]
+    return (side_by_side(*[net for net, wheel in pairs]), tuple(parts))
+
+
+def wheel_shuffled(net, wheel, dice):
+    names = list(range(net[0]))
+    dice.shuffle(names)
+    parts = {names[place]: least_ahead(tuple(names[near] for near in part)) for place, part in enumerate(wheel)}
+    return (named(net, names), tuple(parts[place] for place in range(net[0])))
+
+
+def flat_wheels(dice, many):
+    """So many pairs of a net and a flat wheel of it, of one part or of several, with 1 to 12 places."""
+    pairs = []
+    while len(pairs) < many:
+        parts, left = [], dice.randint(1, 12)
+        while left:
+            count = dice.choice((left, left, dice.randint(1, left)))
+            parts.append(chance_flat_wheel(count, dice.randint(0, 3 * count), dice))
+            left -= count
+        pairs.append(wheel_shuffled(*wheels_side_by_side(*parts), dice))
+    return pairs
+
+
+def chance_ring(net, dice):
+    """A ring by chance, None where a walk closes none."""
+    near = edge_places(net)
+    way = [dice.randrange(net[0])]
+    while near[way[-1]] - set(way[-2:]):
+        way.append(dice.choice(sorted(near[way[-1]] - set(way[-2:]))))
+        if way[-1] in way[:-1]:
+            return tuple(way[way.index(way[-1]) + 1:])
+    return None
 
 
 def patched_nets():

@@ -3,7 +3,7 @@ import math
 import random
 import unittest
 
-from checks import is_plain_wheel, knot_fault, plain_handles, told_kinds
+from checks import is_plain_wheel, knot_fault, plain_handles, plain_together, told_kinds
 from planeyard.drawing import drawn
 from planeyard.parts import blocks_of
 from planeyard.things import are_edges, is_net, is_wheel
@@ -16,12 +16,6 @@ from samples import (
 
 def many_wheels(net):
     return math.prod(math.factorial(max(0, len(near) - 1)) for near in edge_places(net))
-
-
-def contracted(net, edge):
-    """The net with the edge drawn together to its lesser place."""
-    names = [edge[0] if place == edge[1] else place - (place > edge[1]) for place in range(net[0])]
-    return net_with(net[0] - 1, [(names[a], names[b]) for a, b in net[1] if names[a] != names[b]])
 
 
 class Judging(unittest.TestCase):
@@ -229,7 +223,7 @@ class Whole(Judging):
     def test_with_an_edge_drawn_together_it_stays_flat(self):
         for net in [net for net in self.nets if drawn(net)[0] == "wheel"]:
             for edge in net[1][::4]:
-                self.flat(contracted(net, edge))
+                self.flat(plain_together(net, edge))
 
     def test_whatever_names_places_have(self):
         dice = random.Random(53)

@@ -6,19 +6,10 @@ from checks import next_darts, plain_handles, told_kinds
 from planeyard.things import is_wheel
 from planeyard.wheels import faces_of, handles
 from samples import (
-    chance_nets, chance_tree, edge_places, full, hung_together, less, patched_nets, ring, sample_nets, side_by_side,
-    small_nets, two_threes, wheels_of)
+    chance_nets, chance_tree, chance_wheel, full, hung_together, less, patched_nets, ring, sample_nets,
+    side_by_side, small_nets, two_threes, wheels_of)
 
 FLAT_FOUR = ((1, 2, 3), (0, 3, 2), (0, 1, 3), (0, 2, 1))
-
-
-def chance_wheel(net, dice):
-    parts = []
-    for near in edge_places(net):
-        rest = sorted(near)[1:]
-        dice.shuffle(rest)
-        parts.append(tuple(sorted(near)[:1] + rest))
-    return tuple(parts)
 
 
 def many_wheels():
